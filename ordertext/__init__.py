@@ -1,0 +1,1 @@
+"""Orders told as text, judged, and rows kept by them."""

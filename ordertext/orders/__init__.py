@@ -1,0 +1,1 @@
+"""Orders as rows of words."""

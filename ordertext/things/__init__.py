@@ -1,0 +1,1 @@
+"""Fractions, of which things are made."""

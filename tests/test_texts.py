@@ -2,6 +2,8 @@ import itertools
 import random
 import unittest
 
+from some_orders import some_order
+
 from ordertext import errors
 from ordertext.orders.texts import numbers_of, order_shown, read_order
 
@@ -38,7 +40,8 @@ NO_ORDER = [
     "is a 1", "not same a", "and same a same a", "or", " like", "like ", "like like", "up  a", " up a", "up a ",
     "up a a", "up a like", "then up a", "then  up a like", "then up a down", "then up a like like", "turn", "turn a",
     "turn same a", "pick same a like", "pick same a like like like", "pick like like like", "pick under a 1 like like",
-    "pick both a like like", "pick both same a like like", "pick both under a like like", "pick either under 1 a like like",
+    "pick both a like like", "pick both same a like like", "pick both under a like like",
+    "pick either under 1 a like like",
     "pick not like like like", "pick not under a 1 like like", "pick and same a like like", "pick or same a like like",
     "pick both is a 1/0 like like", "pick both is a -0 like like", "pick both is a 01 like like",
     "pick both is a 1/-2 like like", "pick both is a a like like", "pick both is a  like like",
@@ -70,28 +73,6 @@ def refusal(text, book=BOOK):
     return None
 
 
-def some_part(chance, kind, deep):
-    words = {
-        "order": ["like", "up", "down", "then", "turn", "pick"],
-        "case": ["same", "both", "either", "not", "and", "or"],
-        "mark": ["under", "is"],
-    }
-    parts = {
-        "up": ["field"], "down": ["field"], "then": ["order", "order"], "turn": ["order"], "like": [],
-        "pick": ["case", "order", "order"], "same": ["field"], "both": ["mark"], "either": ["mark"], "not": ["case"],
-        "and": ["case", "case"], "or": ["case", "case"], "under": ["field", "number"], "is": ["field", "number"],
-    }
-    if kind == "field":
-        return [chance.choice(BOOK)]
-    if kind == "number":
-        return [chance.choice(["0", "-1", "1/2", "-2/3", "17"])]
-    word = chance.choice(words[kind][:3] if deep == 0 else words[kind])
-    told = [word]
-    for part in parts[word]:
-        told += some_part(chance, part, max(deep - 1, 0))
-    return told
-
-
 class ReadTest(unittest.TestCase):
     def test_read_and_shown(self):
         for text, order in READ:
@@ -111,9 +92,9 @@ class ReadTest(unittest.TestCase):
     def test_any_order_comes_back(self):
         chance = random.Random(6)
         for turn in range(300):
-            text = " ".join(some_part(chance, "order", 4))
-            with self.subTest(text=text):
-                self.assertEqual(order_shown(read_order(text, BOOK)), text)
+            order = some_order(chance, BOOK, ((0, 1), (-1, 1), (1, 2), (-2, 3), (17, 1)))
+            with self.subTest(order=order):
+                self.assertEqual(read_order(order_shown(order), BOOK), order)
 
     def test_no_order(self):
         for text in NO_ORDER + BOTH_FAULTS:

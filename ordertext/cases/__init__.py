@@ -1,0 +1,1 @@
+"""Facts about things, and what they tell."""

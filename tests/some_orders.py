@@ -1,0 +1,71 @@
+"""What several tests need: orders by chance, things of written numbers, an order's words by point [7]."""
+
+from fractions import Fraction
+
+PARTS = {
+    "like": [], "up": ["field"], "down": ["field"], "then": ["order", "order"], "turn": ["order"],
+    "pick": ["case", "order", "order"], "same": ["field"], "both": ["mark"], "either": ["mark"], "not": ["case"],
+    "and": ["case", "case"], "or": ["case", "case"], "under": ["field", "number"], "is": ["field", "number"],
+}
+BEGINS = {
+    "order": ["like", "up", "down", "then", "turn", "pick"],
+    "case": ["same", "both", "either", "not", "and", "or"],
+    "mark": ["under", "is"],
+}
+
+
+def fraction_of(value):
+    value = Fraction(value)
+    return (value.numerator, value.denominator)
+
+
+def thing(*values):
+    return tuple(fraction_of(value) for value in values)
+
+
+def some_order(chance, book, numbers, kind="order", deep=4):
+    if kind == "field":
+        return (chance.choice(book),)
+    if kind == "number":
+        return (chance.choice(numbers),)
+    word = chance.choice(BEGINS[kind][:3] if deep == 0 else BEGINS[kind])
+    told = (word,)
+    for part in PARTS[word]:
+        told += some_order(chance, book, numbers, part, max(deep - 1, 0))
+    return told
+
+
+def read_part(words):
+    """The part that stands at the begin of the words, as a nest of lists."""
+    word = words.pop(0)
+    return [word] + [read_part(words) for part in PARTS[word]] if word in PARTS else word
+
+
+def by_the_book(part, book, first, second):
+    """The words of point [7], one by one."""
+    word, parts = part[0], part[1:]
+    values = {name: (Fraction(*one), Fraction(*other)) for name, one, other in zip(book, first, second)}
+    if word == "like":
+        return "like"
+    if word in ("up", "down"):
+        one, other = values[parts[0]]
+        if one == other:
+            return "like"
+        return "ahead" if (one < other) == (word == "up") else "behind"
+    if word == "then":
+        told = by_the_book(parts[0], book, first, second)
+        return by_the_book(parts[1], book, first, second) if told == "like" else told
+    if word == "turn":
+        return by_the_book(parts[0], book, second, first)
+    if word == "pick":
+        return by_the_book(parts[1] if by_the_book(parts[0], book, first, second) else parts[2], book, first, second)
+    if word == "same":
+        return values[parts[0]][0] == values[parts[0]][1]
+    if word in ("both", "either"):
+        how, name, number = parts[0]
+        holds = [value < Fraction(*number) if how == "under" else value == Fraction(*number) for value in values[name]]
+        return all(holds) if word == "both" else any(holds)
+    truths = [by_the_book(case, book, first, second) for case in parts]
+    if word == "not":
+        return not truths[0]
+    return all(truths) if word == "and" else any(truths)

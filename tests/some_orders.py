@@ -1,7 +1,11 @@
 """What several tests need: orders by chance, things of written numbers, an order's words by point [7]."""
 
+import itertools
 from fractions import Fraction
 
+from ordertext.orders.looks import looked
+
+OTHER_WAY = {"ahead": "behind", "like": "like", "behind": "ahead"}
 PARTS = {
     "like": [], "up": ["field"], "down": ["field"], "then": ["order", "order"], "turn": ["order"],
     "pick": ["case", "order", "order"], "same": ["field"], "both": ["mark"], "either": ["mark"], "not": ["case"],
@@ -69,3 +73,25 @@ def by_the_book(part, book, first, second):
     if word == "not":
         return not truths[0]
     return all(truths) if word == "and" else any(truths)
+
+
+def is_one(order, book, things):
+    """The words of point [8], two by two and three by three."""
+    for one, other in itertools.product(things, things):
+        if looked(order, book, one, other) != OTHER_WAY[looked(order, book, other, one)]:
+            return False
+    for one, two, three in itertools.product(things, things, things):
+        looks = [looked(order, book, one, two), looked(order, book, two, three), looked(order, book, one, three)]
+        if looks[0] != "behind" and looks[1] != "behind":
+            if looks[2] == "behind" or (looks[2] == "like" and looks != ["like", "like", "like"]):
+                return False
+    return True
+
+
+def grid(numbers, fields, many):
+    """Things of all values that so many things can have among the numbers, as far as orders can tell."""
+    row = sorted(Fraction(*number) for number in numbers)
+    values = list(row) + [row[0] - step for step in range(1, many + 1)] + [row[-1] + step for step in range(1, many + 1)]
+    for low, high in zip(row, row[1:]):
+        values += [low + (high - low) * Fraction(step, many + 1) for step in range(1, many + 1)]
+    return [thing(*row) for row in itertools.product(values, repeat=fields)]

@@ -2,32 +2,18 @@ import itertools
 import random
 import unittest
 
-from some_orders import by_the_book, read_part, some_order, thing
+from some_orders import by_the_book, is_one, read_part, some_order, thing
 
 from ordertext.orders.looks import is_order, looked
 from ordertext.orders.texts import read_order
 
 BOOK = ("a", "b")
 NUMBERS = ((0, 1), (1, 2), (1, 1))
-OTHER_WAY = {"ahead": "behind", "like": "like", "behind": "ahead"}
 TWENTY = 98765432109876543210
 
 
 def look(text, first, second, book=BOOK):
     return looked(read_order(text, book), book, first, second)
-
-
-def is_one(order, book, things):
-    """The words of point [8], two by two and three by three."""
-    for one, other in itertools.product(things, things):
-        if looked(order, book, one, other) != OTHER_WAY[looked(order, book, other, one)]:
-            return False
-    for one, two, three in itertools.product(things, things, things):
-        looks = [looked(order, book, one, two), looked(order, book, two, three), looked(order, book, one, three)]
-        if looks[0] != "behind" and looks[1] != "behind":
-            if looks[2] == "behind" or (looks[2] == "like" and looks != ["like", "like", "like"]):
-                return False
-    return True
 
 
 ALL_SMALL = [thing(a, b) for a in (-1, 0, "1/2", 1) for b in (0, "1/2")]

@@ -5,8 +5,8 @@ from fractions import Fraction
 
 from some_orders import fraction_of, some_order, thing
 
-from ordertext.cases.facts import fits
-from ordertext.cases.told import Told, look_told
+from ordertext.cases.facts import fits, told_by
+from ordertext.cases.rests import asks_in, open_look, rest_of
 from ordertext.orders.looks import looked
 from ordertext.orders.texts import read_order
 
@@ -21,7 +21,12 @@ def num(value):
 
 
 def look(facts, text, first=0, second=1):
-    return look_told(Told(facts), read_order(text, BOOK), BOOK, first, second)
+    return look_told(told_by(facts, 2), read_order(text, BOOK), first, second)
+
+
+def look_told(told, order, first, second):
+    rest = rest_of(open_look(order, BOOK, first, second), told)
+    return None if asks_in(rest) else rest
 
 
 def all_facts(things, numbers):
@@ -132,10 +137,10 @@ class LookToldTest(unittest.TestCase):
         for turn in range(200):
             order = some_order(chance, BOOK, NUMBERS)
             things = [thing(chance.choice(values), chance.choice(values)) for number in range(3)]
-            told = Told(all_facts(things, NUMBERS))
+            told = told_by(all_facts(things, NUMBERS), 2)
             for first, second in itertools.permutations(range(3), 2):
                 with self.subTest(order=order, things=things, first=first, second=second):
-                    self.assertEqual(look_told(told, order, BOOK, first, second),
+                    self.assertEqual(look_told(told, order, first, second),
                                      looked(order, BOOK, things[first], things[second]))
 
     def test_what_is_told_holds_of_things_of_which_the_facts_hold(self):
@@ -147,7 +152,7 @@ class LookToldTest(unittest.TestCase):
             things = [thing(chance.choice(values), chance.choice(values)) for number in range(3)]
             facts = [fact for fact in all_facts(things, NUMBERS) if chance.randrange(3) == 0]
             other = fits(facts, 2)
-            told = look_told(Told(facts), order, BOOK, 0, 1)
+            told = look_told(told_by(facts, 2), order, 0, 1)
             if told is not None and order != ("like",):
                 seen += 1
                 with self.subTest(order=order, facts=facts):
@@ -156,11 +161,11 @@ class LookToldTest(unittest.TestCase):
         self.assertGreater(seen, 100)
 
     def test_asked_again(self):
-        told = Told([(A0, "less", num(1)), (A1, "same", num(2))])
+        told = told_by([(A0, "less", num(1)), (A1, "same", num(2))], 2)
         order = read_order("pick both under a 3/2 like up a", BOOK)
         for turn in range(3):
-            self.assertEqual(look_told(told, order, BOOK, 0, 1), "ahead")
-            self.assertEqual(look_told(told, order, BOOK, 1, 0), "behind")
+            self.assertEqual(look_told(told, order, 0, 1), "ahead")
+            self.assertEqual(look_told(told, order, 1, 0), "behind")
 
 
 if __name__ == "__main__":

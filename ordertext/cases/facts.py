@@ -1,64 +1,36 @@
 """Whether facts fit, with things that show it, and what follows from them."""
 
-from ordertext.cases.told import Told
-from ordertext.things.fractions import fraction, middle
-
-THINGS = 3
-NOUGHT = (0, 1)
+from ordertext.cases.models import things_of
+from ordertext.cases.told import nothing_told
 
 
 def fits(facts, many):
-    told = Told(facts)
-    if not told.agree():
-        return None
-    ranks = told.ranks()
-    values = values_by_rank(ranks)
-    return tuple([thing_of(ranks, values, number, many) for number in range(THINGS)])
-
-
-def thing_of(ranks, values, number, many):
-    fields = []
-    for field in range(many):
-        rank = ranks.get(("thing", number, field))
-        fields.append(NOUGHT if rank is None else values[rank])
-    return tuple(fields)
-
-
-def values_by_rank(ranks):
-    numbers = numbers_by_rank(ranks)
-    values = {}
-    last = None
-    for rank in sorted(set(list(ranks.values()))):
-        if rank in numbers:
-            last = numbers[rank]
-        else:
-            last = between(last, next_number(numbers, rank))
-        values[rank] = last
-    return values
-
-
-def numbers_by_rank(ranks):
-    numbers = {}
-    for point, rank in ranks.items():
-        if point[0] == "number":
-            numbers[rank] = point[1]
-    return numbers
-
-
-def next_number(numbers, rank):
-    above = [other for other in numbers if other > rank]
-    return numbers[min(above)] if above else None
-
-
-def between(low, high):
-    if low is not None and high is not None:
-        return middle(low, high)
-    if low is not None:
-        return fraction(low[0] + low[1], low[1])
-    if high is not None:
-        return fraction(high[0] - high[1], high[1])
-    return NOUGHT
+    told = told_by(facts, many)
+    return None if told is None else things_of(told, many)
 
 
 def follows(facts, one, other):
-    return Told(facts).tells(one, other)
+    told = told_by(facts, fields_of([one, other]))
+    return None if told is None else told.tells(one, other)
+
+
+def told_by(facts, many):
+    points = points_in(facts)
+    numbers = [point[1] for point in points if point[0] == "number"]
+    told = nothing_told(max(many, fields_of(points)), numbers)
+    for fact in facts:
+        told = told.learned(fact[0], fact[1], fact[2])
+        if told is None:
+            return None
+    return told
+
+
+def points_in(facts):
+    points = []
+    for fact in facts:
+        points.extend([fact[0], fact[2]])
+    return points
+
+
+def fields_of(points):
+    return max([point[2] + 1 for point in points if point[0] == "thing"], default=0)

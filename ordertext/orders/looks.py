@@ -1,43 +1,24 @@
 """Which of two things goes ahead by an order, and whether it is one for some things."""
 
-from ordertext.orders.telling import telling
-from ordertext.things.fractions import compared
+from ordertext.orders.telling import answer, telling
+from ordertext.things.fractions import how_stands
 
 
 def looked(order, book, first, second):
-    def field_told(field):
+    def by_field(word, field):
         place = book.index(field)
-        return by_size(compared(first[place], second[place]), 0)
+        return answer(word, how_stands(first[place], second[place]))
 
-    def mark_told(word, field, number):
+    def by_mark(word, field, number):
         place = book.index(field)
-        return (mark_holds(word, first[place], number), mark_holds(word, second[place], number))
+        return [answer(word, how_stands(thing[place], number)) for thing in (first, second)]
 
-    return telling(order, field_told, mark_told)
-
-
-def by_size(one, other):
-    if one < other:
-        return "ahead"
-    return "behind" if one > other else "like"
-
-
-def mark_holds(word, value, number):
-    if word == "under":
-        return compared(value, number) < 0
-    return compared(value, number) == 0
+    return telling(order, by_field, by_mark)
 
 
 def is_order(order, book, things):
     apart = list(each_once(things))
-    rows = [looks_of(order, book, one, apart) for one in apart]
-    # An order for these things tells of each two what their ranks tell, how many
-    # are ahead of each; and what ranks tell is an order: so no three need be tried.
-    ranks = [row.count("behind") for row in rows]
-    for row, rank in zip(rows, ranks):
-        if row != [by_size(rank, other) for other in ranks]:
-            return False
-    return True
+    return looks_agree([looks_of(order, book, one, apart) for one in apart])
 
 
 def each_once(things):
@@ -49,3 +30,23 @@ def each_once(things):
 
 def looks_of(order, book, one, things):
     return [looked(order, book, one, other) for other in things]
+
+
+def looks_agree(rows):
+    # An order for some things tells of each two what their ranks tell, how many
+    # are ahead of each; and what ranks tell is an order: so no three need be tried.
+    ranks = ranks_of(rows)
+    for row, rank in zip(rows, ranks):
+        if row != [by_size(rank, other) for other in ranks]:
+            return False
+    return True
+
+
+def ranks_of(rows):
+    return [row.count("behind") for row in rows]
+
+
+def by_size(one, other):
+    if one < other:
+        return "ahead"
+    return "behind" if one > other else "like"

@@ -1,21 +1,24 @@
 """What an order tells of two things, part by part, where not all of them need be known.
 
-An order tells ahead, like or behind, a case holds or not, a mark holds or not of
-the first and of the second; None stands wherever that is not known.
+An order tells ahead, like or behind; a case holds or not. A part of which that is not
+known is open, a tuple: ("look", one, other), ("less", one, other), ("same", one, other),
+told by how one stands to other; or a word and the parts that it puts together.
 """
 
 from ordertext.orders.words import WORDS
 
+ASKED = ("look", "less", "same")
+AHEAD = {"less": "ahead", "same": "like", "more": "behind"}
 OTHER_WAY = {"ahead": "behind", "like": "like", "behind": "ahead"}
 
 
-def telling(order, field_told, mark_told):
+def telling(order, by_field, by_mark):
     # Behind each word stand its parts, so from the last word on each word finds
     # its parts told already, the first one uppermost.
     told = []
     for word in reversed(order):
         if word in WORDS:
-            told.append(word_told(word, taken(told, len(WORDS[word][1])), field_told, mark_told))
+            told.append(word_told(word, taken(told, len(WORDS[word][1])), by_field, by_mark))
         else:
             told.append(word)
     return told[0]
@@ -28,57 +31,68 @@ def taken(told, many):
     return parts
 
 
-def word_told(word, parts, field_told, mark_told):
-    kind = WORDS[word][0]
-    if kind == "order":
-        return order_told(word, parts, field_told)
-    if kind == "case":
-        return case_told(word, parts, field_told)
-    return mark_told(word, parts[0], parts[1])
-
-
-def order_told(word, parts, field_told):
+def word_told(word, parts, by_field, by_mark):
     if word == "like":
         return "like"
     if word == "up":
-        return field_told(parts[0])
+        return by_field("look", parts[0])
     if word == "down":
-        return OTHER_WAY.get(field_told(parts[0]))
-    if word == "turn":
-        # A case holds of the second and the first where it holds of the first and
-        # the second, so of them any order tells just the other way about.
-        return OTHER_WAY.get(parts[0])
+        return turned_about(by_field("look", parts[0]))
+    if word == "same":
+        return by_field("same", parts[0])
+    if word == "under":
+        return by_mark("less", parts[0], parts[1])
+    if word == "is":
+        return by_mark("same", parts[0], parts[1])
+    if word == "both":
+        return settled_by(False, "and", parts[0])
+    if word == "either":
+        return settled_by(True, "or", parts[0])
+    return put_together(word, parts)
+
+
+def put_together(word, parts):
     if word == "then":
-        return parts[1] if parts[0] == "like" else parts[0]
-    return picked(parts[0], parts[1], parts[2])
+        return one_then_other(parts[0], parts[1])
+    if word == "turn":
+        return turned_about(parts[0])
+    if word == "pick":
+        return picked(parts[0], parts[1], parts[2])
+    if word == "not":
+        return ("not", parts[0]) if is_open(parts[0]) else not parts[0]
+    return settled_by(word == "or", word, parts)
+
+
+def is_open(part):
+    return isinstance(part, tuple)
+
+
+def answer(word, how):
+    return AHEAD[how] if word == "look" else how == word
+
+
+def one_then_other(one, other):
+    if is_open(one):
+        return ("then", one, other)
+    return other if one == "like" else one
+
+
+def turned_about(part):
+    # A case holds of the second and the first where it holds of the first and the
+    # second, so of them any order tells just the other way about.
+    return ("turn", part) if is_open(part) else OTHER_WAY[part]
 
 
 def picked(case, one, other):
-    if case is None:
-        return None
+    if is_open(case):
+        return ("pick", case, one, other)
     return one if case else other
 
 
-def case_told(word, parts, field_told):
-    if word == "same":
-        told = field_told(parts[0])
-        return None if told is None else told == "like"
-    if word == "not":
-        return None if parts[0] is None else not parts[0]
-    if word == "and":
-        return all_told(parts)
-    if word == "or":
-        return any_told(parts)
-    return all_told(parts[0]) if word == "both" else any_told(parts[0])
-
-
-def all_told(truths):
-    if False in truths:
-        return False
-    return None if None in truths else True
-
-
-def any_told(truths):
-    if True in truths:
-        return True
-    return None if None in truths else False
+def settled_by(truth, word, parts):
+    if truth in parts:
+        return truth
+    rest = [part for part in parts if is_open(part)]
+    if rest == []:
+        return not truth
+    return rest[0] if len(rest) == 1 else (word, rest[0], rest[1])

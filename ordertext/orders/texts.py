@@ -2,7 +2,7 @@
 
 from ordertext.errors import NoField, NoNumber, NoOrder
 from ordertext.orders.words import WORDS, is_name
-from ordertext.things.fractions import number_shown, place_among, read_number
+from ordertext.things.fractions import number_shown, read_number, rising
 
 
 def read_order(text, book):
@@ -62,10 +62,4 @@ def word_shown(word):
 
 
 def numbers_of(order):
-    numbers = []
-    for word in order:
-        if isinstance(word, tuple):
-            place = place_among(numbers, word)
-            if place == len(numbers) or numbers[place] != word:
-                numbers.insert(place, word)
-    return tuple(numbers)
+    return tuple(rising([word for word in order if isinstance(word, tuple)]))

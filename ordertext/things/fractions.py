@@ -38,6 +38,17 @@ def compared(one, other):
     return 0
 
 
+def how_stands(one, other):
+    size = compared(one, other)
+    if size == 0:
+        return "same"
+    return "less" if size < 0 else "more"
+
+
+def is_fraction(number):
+    return number[1] >= 1 and common_divisor(number[0], number[1]) == 1
+
+
 def middle(one, other):
     return fraction(one[0] * other[1] + other[0] * one[1], 2 * one[1] * other[1])
 
@@ -53,6 +64,15 @@ def place_among(numbers, number):
         else:
             high = half
     return low
+
+
+def rising(numbers):
+    row = []
+    for number in numbers:
+        place = place_among(row, number)
+        if place == len(row) or row[place] != number:
+            row.insert(place, number)
+    return row
 
 
 def read_number(text):

@@ -172,14 +172,18 @@ def spoilt(chance, paper, book, numbers):
     return how, paper[:place] + (new,) + paper[place + 1:]
 
 
-def some_paper(chance, fields, numbers, many):
-    """A paper by chance, of splits ahead of ends."""
+def some_paper(chance, fields, numbers, many, good):
+    """Splits by chance whose ways meet, and lead to a good paper or, some of them, to an end."""
     knots = []
-    for place in range(many - 2):
+    bad = many + len(good)
+    for place in range(many):
         field = chance.randrange(fields)
         others = [at(chance.randrange(3), field), ("number", chance.choice(numbers))]
         points = [at(chance.randrange(3), field), chance.choice(others)]
         chance.shuffle(points)
-        onward = [min(chance.randrange(place + 1, place + 5), many - 1) for way in range(3)]
+        onward = [min(chance.randrange(place + 1, place + 4), many) for way in range(3)]
+        if place > many // 2 and chance.randrange(2):
+            onward[chance.randrange(3)] = bad
         knots.append(("split",) + tuple(points) + tuple(onward))
-    return tuple(knots) + (("end",),) * 2
+    knots += [knot[:3] + tuple(onward + many for onward in knot[3:]) for knot in good]
+    return tuple(knots) + (("end",),)

@@ -272,26 +272,71 @@ class OrderShownByTest(unittest.TestCase):
 
     def test_papers_by_chance(self):
         chance = random.Random(31)
-        texts = ("up a", "pick both under a 1/2 like like", "pick same a like up a", "pick either is a 0 like like")
+        texts = ("up a", "pick both under a 1/2 like like", "pick same a like like", "pick either is a 0 like like")
         seen = {True: 0, False: 0}
-        for turn in range(400):
+        for turn in range(300):
             book = BOOK[:chance.choice([1, 2])]
             order = read_order(chance.choice(texts), book)
-            paper = some_paper(chance, len(book), [(0, 1), (1, 2), (1, 1)], chance.randrange(3, 14))
-            if turn % 10 == 0:
-                asked = [(at(0), at(1)), (at(0), at(2)), (at(2), at(1))] + [(at(k), num(0)) for k in range(3)]
-                asked += [(num("1/2"), at(k)) for k in range(3)]
-                paper = behind(chance.sample(asked, 8), (END,))
+            paper = some_paper(chance, len(book), [(0, 1), (1, 2)], chance.randrange(1, 8), judged(order, book)[1])
             told = plain_order_shown(order, book, paper)
             with self.subTest(order=order, paper=paper):
                 self.assertIs(order_shown_by(order, book, paper), told)
             seen[told] += 1
-        self.assertGreater(min(seen.values()), 5)
+        self.assertGreater(min(seen.values()), 50)
 
     def test_asked_again(self):
         for turn in range(2):
             self.assertIs(shown("up a", UP_PAPER), True)
             self.assertIs(shown("up b", UP_PAPER), False)
+
+
+class WaysThatMeetTest(unittest.TestCase):
+    """Ways that come to one knot are gone by the facts of each, whichever of them is gone first."""
+
+    def try_out(self, text, knots):
+        """The knots lead to a good paper, and by the ways called less and more there or to an end."""
+        order = read_order(text, BOOK)
+        good = judged(order, BOOK)[1]
+        many = len(knots)
+        rest = [knot[:3] + tuple(onward + many for onward in knot[3:]) for knot in good] + [END]
+        bad = many + len(good)
+        for less, more in ((many, many), (bad, many), (many, bad)):
+            named = {"good": many, "less": less, "more": more}
+            paper = [knot[:3] + tuple(named.get(onward, onward) for onward in knot[3:]) for knot in knots]
+            with self.subTest(less=less, more=more):
+                self.assertIs(order_shown_by(order, BOOK, tuple(paper + rest)), less == more)
+
+    def test_a_point_that_splits_alone_ask_of(self):
+        self.try_out("up a", (("split", at(0, 1), num(1), 1, 1, 1), ("split", at(0, 1), num(1), "less", "good", "more")))
+
+    def test_a_number_that_splits_ask_of_again(self):
+        self.try_out("up a", (
+            ("split", at(0), num(1), 1, "good", 1),
+            ("split", at(1), num(3), 2, 2, 2),
+            ("split", at(0), num(1), "less", "good", "more"),
+        ))
+
+    def test_a_number_between_those_asked_of_again(self):
+        self.try_out("up a", (
+            ("split", at(0), num(2), 1, "good", 1),
+            ("split", at(0), num(1), 2, "good", 2),
+            ("split", at(0), num(3), "less", "good", "more"),
+        ))
+
+    def test_two_points_told_by_a_number_that_is_not_asked_of_again(self):
+        self.try_out("pick same a like like", (
+            ("split", at(0), num(5), 1, "good", 2),
+            ("split", at(1), num(5), "good", "good", 3),
+            ("split", at(1), num(5), 3, "good", "good"),
+            ("split", at(0), at(1), "less", "good", "more"),
+        ))
+
+    def test_a_point_that_a_look_alone_asks_of(self):
+        # Where the first is 0 the second's place by 0 tells their look, else not always.
+        for onward, told in ((1, False), (2, True)):
+            paper = (("split", at(0), num(0), 2, 1, onward), ("split", at(1), num(0), 3, 3, 3),
+                     ("split", at(0), at(1), 3, 3, 3), END)
+            self.assertIs(alike_shown_by(("up", "a"), ("up", "a"), BOOK, paper), told)
 
 
 class AlikeShownByTest(unittest.TestCase):

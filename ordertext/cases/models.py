@@ -19,7 +19,7 @@ def thing_of(values, number, many):
 
 
 def lesser_first(told, places):
-    return sorted(places, key=lambda place: len([less for less in places if told.more[less] >> place & 1]))
+    return sorted(places, key=lambda place: sum([told.more[less] >> place & 1 for less in places]))
 
 
 def value_at(told, place, values):

@@ -1,0 +1,1 @@
+"""Looks at few things: as few as can be, and nets of them."""

@@ -1,0 +1,1 @@
+"""Rows of things and orders that are ones for them."""

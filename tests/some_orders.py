@@ -3,9 +3,12 @@
 import itertools
 from fractions import Fraction
 
-from ordertext.orders.looks import looked
+from ordertext.orders.looks import is_order, looked
+from ordertext.orders.texts import read_order
 
 OTHER_WAY = {"ahead": "behind", "like": "like", "behind": "ahead"}
+# Orders for all things of a book with the fields a and b.
+RIGHT_TEXTS = ("up a", "down b", "like", "then up a down b", "turn then up b up a", "pick both under a 2 up b up a")
 PARTS = {
     "like": [], "up": ["field"], "down": ["field"], "then": ["order", "order"], "turn": ["order"],
     "pick": ["case", "order", "order"], "same": ["field"], "both": ["mark"], "either": ["mark"], "not": ["case"],
@@ -95,3 +98,46 @@ def grid(numbers, fields, many):
     for low, high in zip(row, row[1:]):
         values += [low + (high - low) * Fraction(step, many + 1) for step in range(1, many + 1)]
     return [thing(*row) for row in itertools.product(values, repeat=fields)]
+
+
+def order_of(text, book=("a", "b")):
+    return read_order(text, book)
+
+
+def some_row(chance, many, values, fields=2):
+    """A row of so many things by chance, of few values, so that some are like or the same."""
+    return tuple(thing(*[chance.randrange(values) for field in range(fields)]) for place in range(many))
+
+
+def some_right_order(chance, book, row):
+    """An order by chance that is one for the row."""
+    while True:
+        order = ("pick",)
+        for kind in ("case", "order", "order"):
+            order += some_order(chance, book, ((0, 1), (1, 2), (1, 1), (2, 1)), kind, 2)
+        if is_order(order, book, row):
+            return order
+
+
+def in_order_by_the_book(order, book, row):
+    """A row put in order by the words of point [13]: each thing behind those ahead of it or like it."""
+    told = []
+    for one in row:
+        place = 0
+        while place < len(told) and looked(order, book, told[place], one) != "behind":
+            place += 1
+        told.insert(place, one)
+    return tuple(told)
+
+
+class CountingBook(tuple):
+    """A book that counts how often a field's place is asked for: by `up a` once a look."""
+
+    def index(self, field):
+        self.asked = getattr(self, "asked", 0) + 1
+        return tuple.index(self, field)
+
+
+def bits(many):
+    """How many bits are needed to write a number; of 0 none."""
+    return len(bin(many)) - 2 if many > 0 else 0

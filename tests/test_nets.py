@@ -2,20 +2,15 @@ import itertools
 import random
 import unittest
 
-from some_orders import thing
+from some_orders import order_of, thing
 
 from ordertext.errors import NoNet, OrderError
 from ordertext.looks.nets import beats, led, net_for, smaller
 from ordertext.orders.looks import looked
-from ordertext.orders.texts import read_order
 
 BOOK = ("a", "b")
 MOST = (0, 0, 1, 3, 5, 9, 12, 16, 19)
 BUBBLES = ((0, 1), (1, 2), (2, 3), (0, 1), (1, 2), (0, 1))
-
-
-def order_of(text):
-    return read_order(text, BOOK)
 
 
 def plain_led(net, row):

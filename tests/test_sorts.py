@@ -2,21 +2,16 @@ import itertools
 import random
 import unittest
 
-from some_orders import is_one, some_order, thing
+from some_orders import is_one, order_of, some_order, thing
 
 from ordertext.errors import NoRow, OrderError
 from ordertext.orders.looks import is_order, looked
-from ordertext.orders.texts import read_order
 from ordertext.rows.sorts import back, crossed, turned, turning
 
 BOOK = ("a", "b")
 NUMBERS = ((0, 1), (1, 2), (1, 1))
 RING = (thing(0, 2), thing(1, 0), thing(2, 1))
 RING_TEXT = "pick either is b 0 up a up b"
-
-
-def order_of(text):
-    return read_order(text, BOOK)
 
 
 def each_pair(order, row):

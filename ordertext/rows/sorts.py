@@ -2,6 +2,7 @@
 
 from ordertext.errors import NoRow
 from ordertext.orders.looks import each_once, ranks_in, table_of, three_against
+from ordertext.things.halving import many_ahead
 
 
 def turning(order, book, row):
@@ -38,19 +39,7 @@ def crossed(order, book, row):
     # The ranks so far, rising: halving finds how many of them are greater.
     rising = []
     for rank in ranks_of(order, book, row):
-        place = place_behind(rising, rank)
+        place = many_ahead(len(rising), lambda spot: rising[spot] <= rank)
         many = many + len(rising) - place
         rising.insert(place, rank)
     return many
-
-
-def place_behind(ranks, rank):
-    low = 0
-    high = len(ranks)
-    while low < high:
-        half = (low + high) // 2
-        if ranks[half] <= rank:
-            low = half + 1
-        else:
-            high = half
-    return low

@@ -1,6 +1,7 @@
 """Fractions: tuples (above, below), below from 1 on, without a common divisor but 1."""
 
 from ordertext.errors import NoNumber
+from ordertext.things.halving import many_ahead
 
 FIGURES = "0123456789"
 # Python's own int and str refuse numbers of some thousand figures, which
@@ -53,17 +54,9 @@ def middle(one, other):
     return fraction(one[0] * other[1] + other[0] * one[1], 2 * one[1] * other[1])
 
 
+# The numbers rise: the place of the first that is not less.
 def place_among(numbers, number):
-    # The numbers rise, so halving finds the place of the first that is not less.
-    low = 0
-    high = len(numbers)
-    while low < high:
-        half = (low + high) // 2
-        if compared(numbers[half], number) < 0:
-            low = half + 1
-        else:
-            high = half
-    return low
+    return many_ahead(len(numbers), lambda place: compared(numbers[place], number) < 0)
 
 
 def rising(numbers):

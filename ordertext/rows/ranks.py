@@ -2,6 +2,7 @@
 
 from ordertext.errors import NoPlace
 from ordertext.orders.looks import looked
+from ordertext.rows.places import are_places
 from ordertext.rows.sorts import turning
 
 
@@ -19,7 +20,7 @@ def first_places(order, book, row, many):
 
 
 def first_shown(order, book, row, places):
-    if not all([0 <= place < len(row) for place in places]):
+    if not are_places(places, len(row)):
         return False
 
     def goes_ahead(one, other):
